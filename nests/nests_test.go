@@ -1,0 +1,123 @@
+// Package nests has the tests that all kinds of nests share: of each kind they ask for the calls of a nest (P5.4 of
+// shared/doc/05-cells.md), and for no more steps than its chapter allows.
+package nests
+
+import (
+	"testing"
+
+	"haycock/api"
+	"haycock/gauge"
+	"haycock/shed"
+)
+
+// calls are those of P5.4, but New.
+type calls interface {
+	Capacity() int
+	Make() int
+	Has(h int) bool
+	Len(h int) int
+	Insert(h, slot int, e api.Entry) bool
+	Min(h int) (int, bool)
+	Extract(h int) (int, bool)
+	Decrease(slot int, e api.Entry) bool
+	Delete(slot int) bool
+	Meld(a, b int) bool
+	Entry(slot int) (api.Entry, bool)
+	Home(slot int) (int, bool)
+	Steps() int
+}
+
+// kind is a kind of nests.
+type kind struct {
+	name string
+	open func(capacity int) (calls, api.Errno)
+	// call is how many steps a call may take, but Meld, upon a heap with so many slots.
+	call func(in int) int
+	// meld is how many steps a Meld may take of two heaps with so many slots.
+	meld func(a, b int) int
+}
+
+// kinds are all that are built.
+func kinds() []kind {
+	library := api.Config{Kind: api.KindLibrary}
+	return []kind{
+		{name: "shed", open: opener(shed.New), call: each(library), meld: bySlots(library)},
+	}
+}
+
+// opener is a kind's New; no nest is none of the calls, either.
+func opener[N any, P interface {
+	*N
+	calls
+}](open func(capacity int) (P, api.Errno)) func(capacity int) (calls, api.Errno) {
+	return func(capacity int) (calls, api.Errno) {
+		n, e := open(capacity)
+		if n == nil {
+			return nil, e
+		}
+		return n, e
+	}
+}
+
+// each: a call takes no more than the Limit of one more than how many slots there are.
+func each(c api.Config) func(in int) int {
+	return func(in int) int { return gauge.Limit(c, in+1) }
+}
+
+// bySlots: a Meld takes no more than the Limit as often as the lesser heap has slots, and once more.
+func bySlots(c api.Config) func(a, b int) int {
+	return func(a, b int) int { return gauge.Limit(c, a+b+1) * (min(a, b) + 1) }
+}
+
+// forEach runs a test of each kind.
+func forEach(t *testing.T, test func(t *testing.T, k kind)) {
+	t.Helper()
+	for _, k := range kinds() {
+		t.Run(k.name, func(t *testing.T) { test(t, k) })
+	}
+}
+
+const (
+	leastInt    = -1 << 63
+	greatestInt = 1<<63 - 1
+	greatestSeq = 1<<64 - 1
+)
+
+// farNumbers are of no slot and of no heap; some of them would be of one in fewer bits.
+var farNumbers = []int{
+	leastInt, leastInt + 1, leastInt + 2, -1 << 62, -1 << 32, -1<<32 + 1, -65537, -65536, -65535, -3, -2, -1,
+	65537, 65538, 1 << 17, 1<<31 - 1, 1 << 31, 1 << 32, 1<<32 + 1, 1<<32 + 2, 1 << 62, greatestInt - 1, greatestInt,
+}
+
+// risingEntries rise; among them are the edges, and such as a sign or fewer bits would turn round.
+var risingEntries = []api.Entry{
+	{Key: leastInt}, {Key: leastInt, Seq: 1}, {Key: leastInt, Seq: greatestSeq}, {Key: leastInt + 1}, {Key: -1 << 32, Seq: 9},
+	{Key: -2, Seq: 1 << 63}, {Key: -1}, {Key: -1, Seq: greatestSeq}, {}, {Seq: 1}, {Seq: 1<<63 - 1}, {Seq: 1 << 63}, {Seq: greatestSeq},
+	{Key: 1}, {Key: 1, Seq: 1 << 32}, {Key: 1<<31 - 1}, {Key: 1 << 31}, {Key: 1 << 32}, {Key: 1<<32 + 1}, {Key: 1 << 62, Seq: 5},
+	{Key: greatestInt - 1, Seq: greatestSeq}, {Key: greatestInt}, {Key: greatestInt, Seq: 1}, {Key: greatestInt, Seq: greatestSeq},
+}
+
+// key is an entry of that key.
+func key(k int64) api.Entry {
+	return api.Entry{Key: k}
+}
+
+// roller tells numbers below n that hang on the seed alone.
+func roller(seed uint64) func(n int) int {
+	mix := seed*2654435761 + 12345
+	return func(n int) int {
+		mix = mix*6364136223846793005 + 1442695040888963407
+		return int(mix>>33) % n
+	}
+}
+
+// shuffled is the numbers from 0 to below n, mixed.
+func shuffled(n int, roll func(n int) int) []int {
+	all := make([]int, n)
+	for i := range all {
+		k := roll(i + 1)
+		all[i] = all[k]
+		all[k] = i
+	}
+	return all
+}
