@@ -3,9 +3,12 @@
 package nests
 
 import (
+	"slices"
+	"strconv"
 	"testing"
 
 	"haycock/api"
+	"haycock/dary"
 	"haycock/gauge"
 	"haycock/shed"
 )
@@ -35,14 +38,28 @@ type kind struct {
 	call func(in int) int
 	// meld is how many steps a Meld may take of two heaps with so many slots.
 	meld func(a, b int) int
+	// brief: others like it stand for it where a test takes long.
+	brief bool
 }
 
 // kinds are all that are built.
 func kinds() []kind {
 	library := api.Config{Kind: api.KindLibrary}
-	return []kind{
+	all := []kind{
 		{name: "shed", open: opener(shed.New), call: each(library), meld: bySlots(library)},
 	}
+	for d := 2; d <= 16; d++ {
+		all = append(all, rows(d))
+	}
+	return all
+}
+
+// rows is the kind of heaps in rows, with so many children each. Those with the fewest and with the most children stand for
+// the others.
+func rows(d int) kind {
+	c := api.Config{Kind: api.KindDary, D: d}
+	open := func(capacity int) (*dary.Nest, api.Errno) { return dary.New(capacity, d) }
+	return kind{name: "dary " + strconv.Itoa(d), open: opener(open), call: each(c), meld: bySlots(c), brief: d != 2 && d != 16}
 }
 
 // opener is a kind's New; no nest is none of the calls, either.
@@ -72,8 +89,23 @@ func bySlots(c api.Config) func(a, b int) int {
 // forEach runs a test of each kind.
 func forEach(t *testing.T, test func(t *testing.T, k kind)) {
 	t.Helper()
-	for _, k := range kinds() {
-		t.Run(k.name, func(t *testing.T) { test(t, k) })
+	runAll(t, kinds(), test)
+}
+
+// forFew runs a test that takes long: of each kind but the brief ones.
+func forFew(t *testing.T, test func(t *testing.T, k kind)) {
+	t.Helper()
+	runAll(t, slices.DeleteFunc(kinds(), func(k kind) bool { return k.brief }), test)
+}
+
+// runAll runs a test of some kinds, of several ones at a time.
+func runAll(t *testing.T, some []kind, test func(t *testing.T, k kind)) {
+	t.Helper()
+	for _, k := range some {
+		t.Run(k.name, func(t *testing.T) {
+			t.Parallel()
+			test(t, k)
+		})
 	}
 }
 

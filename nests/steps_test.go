@@ -32,10 +32,10 @@ func orders(n int) map[string]func(slot int) int64 {
 	}
 }
 
-// forOrders runs a test of each kind, by each order of keys, on heaps of sizes about powers of two, and the greatest one.
+// forOrders runs a test by each order of keys, on heaps of sizes about powers of two, and the greatest one.
 func forOrders(t *testing.T, test func(t *testing.T, k kind, n int, keyOf func(slot int) int64)) {
 	t.Helper()
-	forEach(t, func(t *testing.T, k kind) {
+	forFew(t, func(t *testing.T, k kind) {
 		for _, n := range []int{1, 2, 3, 4, 5, 7, 8, 9, 15, 16, 17, 31, 32, 33, 255, 256, 257, 1000, most} {
 			for name, keyOf := range orders(n) {
 				t.Run(name+" "+strconv.Itoa(n), func(t *testing.T) { test(t, k, n, keyOf) })
@@ -111,7 +111,7 @@ func halves(t *testing.T, k kind, first, second int, keyOf func(slot int) int64)
 // TestStepsMeld melds heaps of unlike sizes, the lesser one into the greater one and the other way round.
 func TestStepsMeld(t *testing.T) {
 	sizes := []int{0, 1, 2, 3, 7, 8, 64, 100, 1000, 5000}
-	forEach(t, func(t *testing.T, k kind) {
+	forFew(t, func(t *testing.T, k kind) {
 		for _, a := range sizes {
 			for _, b := range sizes {
 				for _, keyOf := range orders(a + b) {

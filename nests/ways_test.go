@@ -18,7 +18,7 @@ func TestAllShortWays(t *testing.T) {
 		func(x *pair) { x.delete(0) }, func(x *pair) { x.delete(1) }, func(x *pair) { x.delete(3) },
 		func(x *pair) { x.meld(1, 2) }, func(x *pair) { x.meld(2, 1) }, func(x *pair) { x.meld(1, 1) },
 	}
-	forEach(t, func(t *testing.T, k kind) {
+	forFew(t, func(t *testing.T, k kind) {
 		way := make([]int, length)
 		for more := true; more; more = next(way, len(choices)) {
 			x := newPair(t, k, 3, 2)
