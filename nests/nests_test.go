@@ -10,6 +10,7 @@ import (
 	"haycock/api"
 	"haycock/dary"
 	"haycock/gauge"
+	"haycock/leftist"
 	"haycock/shed"
 )
 
@@ -44,9 +45,10 @@ type kind struct {
 
 // kinds are all that are built.
 func kinds() []kind {
-	library := api.Config{Kind: api.KindLibrary}
+	library, left := api.Config{Kind: api.KindLibrary}, api.Config{Kind: api.KindLeftist}
 	all := []kind{
 		{name: "shed", open: opener(shed.New), call: each(library), meld: bySlots(library)},
+		{name: "leftist", open: opener(leftist.New), call: each(left), meld: asOne(left)},
 	}
 	for d := 2; d <= 16; d++ {
 		all = append(all, rows(d))
@@ -84,6 +86,11 @@ func each(c api.Config) func(in int) int {
 // bySlots: a Meld takes no more than the Limit as often as the lesser heap has slots, and once more.
 func bySlots(c api.Config) func(a, b int) int {
 	return func(a, b int) int { return gauge.Limit(c, a+b+1) * (min(a, b) + 1) }
+}
+
+// asOne: a Meld takes no more than any call upon a heap with the slots of both.
+func asOne(c api.Config) func(a, b int) int {
+	return func(a, b int) int { return gauge.Limit(c, a+b+1) }
 }
 
 // forEach runs a test of each kind.
