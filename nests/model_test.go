@@ -80,6 +80,8 @@ type pair struct {
 	k kind
 	n calls
 	p *plain
+	// calls is how many there were; what takes no steps in any kind of nests may count as fewer ones.
+	calls int
 }
 
 // newPair is a nest of which it is known that it can be, with so many heaps.
@@ -96,13 +98,23 @@ func newPair(t *testing.T, k kind, capacity, heaps int) *pair {
 	return x
 }
 
-// within does something, and asks for no more steps than that.
+// within does a call, and asks for no more steps than that, and than all calls up to it may take together.
 func (x *pair) within(what string, most int, do func()) {
 	x.t.Helper()
 	steps := x.n.Steps()
 	do()
+	x.calls++
 	if took := x.n.Steps() - steps; took < 0 || took > most {
 		x.t.Fatalf("%s took %d steps, not at most %d", what, took, most)
+	}
+	x.k.wantWhole(x.t, x.n, x.calls)
+}
+
+// wantWhole asks for no more steps than so many calls may take together.
+func (k kind) wantWhole(t *testing.T, n calls, calls int) {
+	t.Helper()
+	if steps, most := n.Steps(), k.whole(calls); steps > most {
+		t.Fatalf("%d calls took %d steps, not at most %d", calls, steps, most)
 	}
 }
 

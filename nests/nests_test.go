@@ -12,6 +12,7 @@ import (
 	"haycock/gauge"
 	"haycock/leftist"
 	"haycock/shed"
+	"haycock/skew"
 )
 
 // calls are those of P5.4, but New.
@@ -39,6 +40,8 @@ type kind struct {
 	call func(in int) int
 	// meld is how many steps a Meld may take of two heaps with so many slots.
 	meld func(a, b int) int
+	// whole is how many steps the first so many calls may take together, whichever they are.
+	whole func(calls int) int
 	// brief: others like it stand for it where a test takes long.
 	brief bool
 }
@@ -47,8 +50,9 @@ type kind struct {
 func kinds() []kind {
 	library, left := api.Config{Kind: api.KindLibrary}, api.Config{Kind: api.KindLeftist}
 	all := []kind{
-		{name: "shed", open: opener(shed.New), call: each(library), meld: bySlots(library)},
-		{name: "leftist", open: opener(leftist.New), call: each(left), meld: asOne(left)},
+		{name: "shed", open: opener(shed.New), call: each(library), meld: bySlots(library), whole: unbounded},
+		{name: "leftist", open: opener(leftist.New), call: each(left), meld: asOne(left), whole: unbounded},
+		together("skew", opener(skew.New), api.Config{Kind: api.KindSkew}),
 	}
 	for d := 2; d <= 16; d++ {
 		all = append(all, rows(d))
@@ -61,7 +65,24 @@ func kinds() []kind {
 func rows(d int) kind {
 	c := api.Config{Kind: api.KindDary, D: d}
 	open := func(capacity int) (*dary.Nest, api.Errno) { return dary.New(capacity, d) }
-	return kind{name: "dary " + strconv.Itoa(d), open: opener(open), call: each(c), meld: bySlots(c), brief: d != 2 && d != 16}
+	return kind{
+		name: "dary " + strconv.Itoa(d), open: opener(open),
+		call: each(c), meld: bySlots(c), whole: unbounded, brief: d != 2 && d != 16,
+	}
+}
+
+// together is a kind whose calls are bounded together alone.
+func together(name string, open func(capacity int) (calls, api.Errno), c api.Config) kind {
+	return kind{
+		name: name, open: open,
+		call: unbounded, meld: func(a, b int) int { return unbounded(a + b) },
+		whole: func(calls int) int { return gauge.Whole(c, calls) },
+	}
+}
+
+// unbounded: it may take any steps.
+func unbounded(int) int {
+	return greatestInt
 }
 
 // opener is a kind's New; no nest is none of the calls, either.

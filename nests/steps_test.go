@@ -153,10 +153,12 @@ func meldAll(t *testing.T, k kind, meld func(n calls, all, one int) (int, bool))
 		if took := n.Steps() - steps; took > k.meld(one-1, 1) {
 			t.Fatalf("Meld of %d slots and one took %d steps", one-1, took)
 		}
+		k.wantWhole(t, n, 2*most+one-1)
 	}
 	for slot := most - 1; slot >= 0; slot-- {
 		if got, ok := n.Extract(all); !ok || got != slot {
 			t.Fatalf("Extract(%d) = %d, %v, not %d", all, got, ok, slot)
 		}
+		k.wantWhole(t, n, 4*most-1-slot)
 	}
 }
