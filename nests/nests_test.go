@@ -8,6 +8,7 @@ import (
 	"testing"
 
 	"haycock/api"
+	"haycock/binomial"
 	"haycock/dary"
 	"haycock/gauge"
 	"haycock/leftist"
@@ -48,11 +49,12 @@ type kind struct {
 
 // kinds are all that are built.
 func kinds() []kind {
-	library, left := api.Config{Kind: api.KindLibrary}, api.Config{Kind: api.KindLeftist}
+	library := api.Config{Kind: api.KindLibrary}
 	all := []kind{
 		{name: "shed", open: opener(shed.New), call: each(library), meld: bySlots(library), whole: unbounded},
-		{name: "leftist", open: opener(leftist.New), call: each(left), meld: asOne(left), whole: unbounded},
+		alike("leftist", opener(leftist.New), api.Config{Kind: api.KindLeftist}),
 		together("skew", opener(skew.New), api.Config{Kind: api.KindSkew}),
+		alike("binomial", opener(binomial.New), api.Config{Kind: api.KindBinomial}),
 	}
 	for d := 2; d <= 16; d++ {
 		all = append(all, rows(d))
@@ -69,6 +71,11 @@ func rows(d int) kind {
 		name: "dary " + strconv.Itoa(d), open: opener(open),
 		call: each(c), meld: bySlots(c), whole: unbounded, brief: d != 2 && d != 16,
 	}
+}
+
+// alike is a kind of which a Meld is bounded as all other calls are.
+func alike(name string, open func(capacity int) (calls, api.Errno), c api.Config) kind {
+	return kind{name: name, open: open, call: each(c), meld: asOne(c), whole: unbounded}
 }
 
 // together is a kind whose calls are bounded together alone.
