@@ -12,6 +12,7 @@ import (
 	"haycock/dary"
 	"haycock/gauge"
 	"haycock/leftist"
+	"haycock/pairing"
 	"haycock/shed"
 	"haycock/skew"
 )
@@ -55,6 +56,7 @@ func kinds() []kind {
 		alike("leftist", opener(leftist.New), api.Config{Kind: api.KindLeftist}),
 		together("skew", opener(skew.New), api.Config{Kind: api.KindSkew}),
 		alike("binomial", opener(binomial.New), api.Config{Kind: api.KindBinomial}),
+		together("pairing", opener(pairing.New), api.Config{Kind: api.KindPairing}),
 	}
 	for d := 2; d <= 16; d++ {
 		all = append(all, rows(d))
