@@ -10,6 +10,7 @@ import (
 	"haycock/api"
 	"haycock/binomial"
 	"haycock/dary"
+	"haycock/fibonacci"
 	"haycock/gauge"
 	"haycock/leftist"
 	"haycock/pairing"
@@ -57,6 +58,7 @@ func kinds() []kind {
 		together("skew", opener(skew.New), api.Config{Kind: api.KindSkew}),
 		alike("binomial", opener(binomial.New), api.Config{Kind: api.KindBinomial}),
 		together("pairing", opener(pairing.New), api.Config{Kind: api.KindPairing}),
+		together("fibonacci", opener(fibonacci.New), api.Config{Kind: api.KindFibonacci}),
 	}
 	for d := 2; d <= 16; d++ {
 		all = append(all, rows(d))
